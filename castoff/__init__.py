@@ -1,0 +1,1 @@
+"""Castoff: a shelf of few places before a great store."""
