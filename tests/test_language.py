@@ -44,6 +44,15 @@ BANNED_VALUES = set("""
 """.split())
 BANNED_FILES = {"test", "tests", "testing", "site", "conftest", "sitecustomize", "usercustomize"} | BANNED_WORDS
 TEXT_VALUES = {name for kind in (str, int, list, dict, set, bytes, tuple) for name in vars(kind)}
+WALKED = {"zip", "enumerate", "reversed", "range"}
+WALKED_METHODS = {"items", "keys", "values"}
+WALKERS = {"list", "tuple", "dict", "sorted", "sum", "any", "all", "enumerate", "zip", "min", "max"}
+CHANGING = {"append", "clear", "extend", "insert", "pop", "remove", "reverse", "setdefault", "update"}
+KEYWORDS = {
+    "sorted": {"key", "reverse"}, "min": {"key", "default"}, "max": {"key", "default"}, "sum": {"start"},
+    "enumerate": {"start"}, "zip": {"strict"},
+}
+KEYS = {"len", "int", "str", "abs", "sum", "min", "max", "tuple"}
 FREE_VALUES = {"count", "index", "title", "find", "get", "join", "lower", "upper", "split", "strip", "copy", "add"}
 
 
@@ -67,6 +76,31 @@ def walked(tree, *kinds):
     return [node for node in ast.walk(tree) if isinstance(node, kinds)]
 
 
+def called(node):
+    """The name or method that a call calls, the empty text for anything else."""
+    if not isinstance(node, ast.Call):
+        return ""
+    return node.func.id if isinstance(node.func, ast.Name) else node.func.attr
+
+
+def walked_here(node, parent):
+    """Whether the parent walks this on the spot."""
+    if isinstance(parent, (ast.For, ast.comprehension)):
+        return parent.iter is node
+    if called(parent) == "join":
+        return isinstance(parent.func.value, ast.Constant)
+    return called(parent) in WALKERS and isinstance(parent.func, ast.Name) and node in parent.args
+
+
+def what_is_walked(node):
+    """The texts of all that a loop walks, itself or through what walks it."""
+    if isinstance(node, ast.Call) and called(node) in WALKED - {"range"}:
+        return [text for part in node.args for text in what_is_walked(part)]
+    if isinstance(node, ast.Call) and called(node) in WALKED_METHODS:
+        return what_is_walked(node.func.value)
+    return [ast.unparse(node)] if isinstance(node, (ast.Name, ast.Attribute, ast.Subscript)) else []
+
+
 class TestLanguage(unittest.TestCase):
     @classmethod
     def setUpClass(cls):
@@ -77,6 +111,17 @@ class TestLanguage(unittest.TestCase):
         for path, tree in self.trees.items():
             for node in walked(tree, *kinds):
                 yield f"{path.name}:{getattr(node, 'lineno', 0)}", node
+
+    def each_with_parent(self, *kinds):
+        for path, tree in self.trees.items():
+            for parent in ast.walk(tree):
+                for node in ast.iter_child_nodes(parent):
+                    if isinstance(node, kinds):
+                        yield f"{path.name}:{getattr(node, 'lineno', 0)}", node, parent
+
+    def own_methods(self):
+        classes = [node for _, node in self.each(ast.ClassDef)]
+        return {row.name for node in classes for row in node.body if isinstance(row, ast.FunctionDef)}
 
     def test_l1_l14_files(self):
         self.assertTrue(self.texts)
@@ -166,8 +211,9 @@ class TestLanguage(unittest.TestCase):
             self.assertFalse(node.finalbody, place)
         for place, node in self.each(ast.ListComp):
             self.assertTrue(len(node.generators) == 1 and len(node.generators[0].ifs) <= 1, place)
-        for place, node in self.each(ast.Expr):
-            self.assertIsInstance(node.value, (ast.Call, ast.Constant), place)
+        for place, node, parent in self.each_with_parent(ast.Expr):
+            allowed = (ast.Call, ast.Constant) if isinstance(parent, ast.Module) else ast.Call
+            self.assertIsInstance(node.value, allowed, place)
 
     def test_l7_l27_values(self):
         for place, node in self.each(ast.Constant):
@@ -191,14 +237,14 @@ class TestLanguage(unittest.TestCase):
             inner = {n.name for f in walked(tree, ast.FunctionDef) for n in walked(f, ast.FunctionDef) if n is not f}
             for node in walked(tree, ast.Name):
                 self.assertIn(node.id, OWN_NAMES | tops | local | inner, f"{path.name}:{node.lineno}")
-            plain = {name for row in tree.body if isinstance(row, ast.Assign) for name in bound_at_top(ast.Module([row]))}
+            plain = {target.id for row in tree.body if isinstance(row, ast.Assign) for target in row.targets}
             self.assertFalse((local - plain) & tops, path.name)
             for name in local | tops:
                 self.assertRegex(name, r"^[A-Za-z][A-Za-z0-9_]*$")
                 self.assertNotIn(name, set(vars(builtins)) | BANNED_NAMES, path.name)
 
     def test_l18_l25_l26_attributes(self):
-        methods = {f.name for _, node in self.each(ast.ClassDef) for f in node.body if isinstance(f, ast.FunctionDef)}
+        methods = self.own_methods()
         values = {node.attr for _, node in self.each(ast.Attribute) if isinstance(node.ctx, ast.Store)}
         self.assertFalse(methods & values)
         self.assertFalse(values & (BANNED_VALUES | BANNED_NAMES | (TEXT_VALUES - FREE_VALUES)))
@@ -224,6 +270,62 @@ class TestLanguage(unittest.TestCase):
         for place, node in self.each(ast.FunctionDef):
             self.assertIsNone(node.returns, place)
             self.assertFalse([part for part in node.args.args if part.annotation], place)
+
+    def test_l18_classes_as_they_are_used(self):
+        classes = {node.name for _, node in self.each(ast.ClassDef)} | {"ValueError"}
+        for place, node, parent in self.each_with_parent(ast.Name):
+            if node.id not in classes or called(parent) == "isinstance":
+                continue
+            if isinstance(parent, ast.Attribute):
+                self.assertEqual(parent.attr, "__init__", place)
+            elif not isinstance(parent, (ast.ClassDef, ast.ExceptHandler)):
+                self.assertTrue(isinstance(parent, ast.Call) and parent.func is node, place)
+
+    def test_l22_keywords_and_names_of_pythons_own(self):
+        for place, node in self.each(ast.Call):
+            for word in node.keywords:
+                self.assertIn(word.arg, KEYWORDS.get(called(node), ()), place)
+                if word.arg == "key" and isinstance(word.value, ast.Name) and word.value.id in OWN_NAMES:
+                    self.assertIn(word.value.id, KEYS, place)
+        for place, node, parent in self.each_with_parent(ast.Name):
+            if node.id in OWN_NAMES and node.id not in ("ValueError", "KeyError", "ZeroDivisionError", "StopIteration"):
+                held = isinstance(parent, ast.keyword) or (isinstance(parent, ast.Call) and parent.func is node)
+                self.assertTrue(held or called(parent) == "isinstance" or isinstance(parent, ast.Tuple), place)
+
+    def test_l25_methods_are_called_where_they_stand(self):
+        methods = (self.own_methods() | OWN_METHODS) - FREE_VALUES
+        for place, node, parent in self.each_with_parent(ast.Attribute):
+            if node.attr in methods:
+                key = isinstance(parent, ast.keyword) and parent.arg == "key"
+                self.assertTrue(key or (isinstance(parent, ast.Call) and parent.func is node), place)
+
+    def test_l23_walked_at_once(self):
+        for place, node, parent in self.each_with_parent(ast.Call):
+            own = isinstance(node.func, ast.Name)
+            if called(node) in (WALKED if own else WALKED_METHODS):
+                self.assertTrue(walked_here(node, parent), place)
+
+    def test_l23_what_is_walked_is_not_changed(self):
+        for place, node in self.each(ast.For):
+            texts = what_is_walked(node.iter)
+            for row in node.body:
+                for part in walked(row, ast.Subscript):
+                    if isinstance(part.ctx, ast.Store):
+                        self.assertNotIn(ast.unparse(part.value), texts, place)
+                for part in walked(row, ast.Call):
+                    if called(part) in CHANGING and isinstance(part.func, ast.Attribute):
+                        self.assertNotIn(ast.unparse(part.func.value), texts, place)
+
+    def test_l24_sets(self):
+        for place, node, parent in self.each_with_parent(ast.Call, ast.Set):
+            if isinstance(node, ast.Set) or called(node) in ("set", "frozenset"):
+                beside = isinstance(parent, (ast.Compare, ast.BinOp))
+                self.assertTrue(beside or called(parent) in ("sorted", "len"), place)
+
+    def test_l28_underscored_methods(self):
+        for place, node in self.each(ast.FunctionDef):
+            if node.name == "__init__":
+                self.assertFalse(walked(node, ast.Return), place)
 
 
 if __name__ == "__main__":
