@@ -17,6 +17,16 @@ def check_asks(stock, asks, places):
     return True
 
 
+def earlier_asks(asks):
+    # An ask with its earlier one is a gap of the row; a first ask has none, and None keeps its place.
+    last = {}
+    told = []
+    for number, name in enumerate(asks):
+        told.append(last.get(name))
+        last[name] = number
+    return told
+
+
 def casts_off(shelf, name, gone):
     for other in gone:
         # Looked at one by one: a name that stands twice is not there the second time.

@@ -58,6 +58,10 @@ def assert_refused(case, title, call, *given):
 NO_PLACES = (0, -1, 10 ** 6 + 1, 10 ** 30, True, False, None, "3", "", 3.0, [3], [], (3,), (), {}, {3: 3}, object())
 
 
+def words(text):
+    return text.split()
+
+
 def stock_of(text):
     """A stock of things like a3: its name a, its room 3; the costs are 1, 10, 100 and so on."""
     rows = []
@@ -126,6 +130,40 @@ def plain_run(stock, places, asks, pick):
             shelf.append(name)
         book.append((name, there, went))
     return book
+
+
+def some_of(things):
+    """All choices of some of the things, none and all of them too."""
+    for many in range(len(things) + 1):
+        yield from itertools.combinations(things, many)
+
+
+def lawful_books(stock, asks, places, lying=()):
+    """All lawful books of a row, but for the order of going: those that cast off more than is needed, too."""
+    if not asks:
+        yield []
+        return
+    name, there = asks[0], asks[0] in lying
+    for gone in some_of([other for other in lying if other != name]):
+        left = [other for other in lying if other not in gone] + ([] if there else [name])
+        if sum(map(stock.room_of, left)) <= places:
+            for rest in lawful_books(stock, asks[1:], places, left):
+                yield [(name, there, list(gone))] + rest
+
+
+def cheapest_paid(stock, asks, places):
+    """What the cheapest lawful book pays, by all that may lie on the shelf behind each ask."""
+    ways = {frozenset(): 0}
+    for name in asks:
+        behind = {}
+        for lying, paid in ways.items():
+            paid += 0 if name in lying else stock.cost_of(name)
+            for kept in some_of(sorted(lying - {name})):
+                now = frozenset(kept) | {name}
+                if sum(map(stock.room_of, now)) <= places:
+                    behind[now] = min(paid, behind.get(now, paid))
+        ways = behind
+    return min(ways.values())
 
 
 class Watch(Rule):
