@@ -1,6 +1,6 @@
 """Rows of asks looked at ahead of a run, and the books that tell of runs."""
 
-from castoff.errors import BadBook, TooMany, TooWide, Unknown
+from castoff.errors import BadBook, TooMany, TooWide, Unknown, Unlike
 from castoff.shelf import Shelf, check_places
 from castoff.words import MOST_ASKS
 
@@ -15,6 +15,12 @@ def check_asks(stock, asks, places):
         if stock.room_of(name) > places:
             raise TooWide(name, number)
     return True
+
+
+def check_rooms(stock, asks):
+    for name in asks:
+        if stock.room_of(name) != 1:
+            raise Unlike(f"{name} has another room than 1")
 
 
 def earlier_asks(asks):

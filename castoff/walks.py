@@ -1,7 +1,7 @@
 """One walk over a row of asks that tells of shelves of all sizes."""
 
-from castoff.books import check_asks, earlier_asks
-from castoff.errors import NoNumber, NoRule, Unlike
+from castoff.books import check_asks, check_rooms, earlier_asks
+from castoff.errors import NoNumber, NoRule
 from castoff.shelf import MOST_PLACES
 from castoff.sums import Sums
 
@@ -52,9 +52,7 @@ def check_walk(rule, asks):
     check_asks(rule.stock, asks, rule.places)
     if not rule.nests():
         raise NoRule("the rule is not told to hold whatever a lesser shelf holds")
-    for name in asks:
-        if rule.stock.room_of(name) != 1:
-            raise Unlike(f"{name} has another room than 1")
+    check_rooms(rule.stock, asks)
 
 
 def depth_in(row, name):

@@ -2,10 +2,13 @@
 
 import itertools
 import random
+from fractions import Fraction
 
 from castoff import errors
-from castoff.rules import Rule
+from castoff.dues import Dues
+from castoff.rules import Farthest, First, Halving, Oldest, Ranked, Rule, book_of
 from castoff.stock import Stock
+from castoff.turns import Hand, Rows
 
 PLAIN_WORDS = {
     "CastError": "refused",
@@ -62,6 +65,11 @@ def words(text):
     return text.split()
 
 
+def ratios(text):
+    """Ratios as 1/2 0 7 tells them."""
+    return [Fraction(word).as_integer_ratio() for word in text.split()]
+
+
 def stock_of(text):
     """A stock of things like a3: its name a, its room 3; the costs are 1, 10, 100 and so on."""
     rows = []
@@ -116,6 +124,47 @@ def long_cases():
                 yield stock, places, asks
 
 
+def drawn_case(dice, things, longest, widest=1):
+    """A stock of some things of unlike costs, 0 among them, their rooms up to the widest, and a row of asks."""
+    names = "abcdefgh"[:dice.randint(1, things)]
+    costs = [dice.choice((0, 1, 7, dice.randint(0, 99))) for _ in names]
+    stock = Stock([(name, cost, dice.randint(1, widest)) for name, cost in zip(names, costs)])
+    return stock, [dice.choice(names) for _ in range(dice.randint(0, longest))]
+
+
+def widest_of(stock, asks):
+    return max(map(stock.room_of, asks), default=1)
+
+
+def rules_for(stock, places, asks):
+    return [
+        Rule(stock, places), Ranked(stock, places), Oldest(stock, places), First(stock, places),
+        Halving(stock, places), Halving(stock, places, 1), Farthest(stock, places, asks), Hand(stock, places),
+        Rows(stock, places), Dues(stock, places),
+    ]
+
+
+def gaps_between(asks):
+    """Each gap as its thing and the numbers of the asks strictly between."""
+    gaps = []
+    for start in range(len(asks)):
+        for end in range(start + 1, len(asks)):
+            if asks[start] == asks[end] and asks[start] not in asks[start + 1:end]:
+                gaps.append((asks[start], range(start + 1, end)))
+    return gaps
+
+
+def plain_floor(stock, asks, places, prices):
+    """The floor that prices set, as the document words it, sum by sum."""
+    prices = [Fraction(*price) for price in prices]
+    floor = Fraction(sum(map(stock.cost_of, set(asks))))
+    for name, between in gaps_between(asks):
+        floor += min(stock.cost_of(name), stock.room_of(name) * sum(prices[number] for number in between))
+    for name, price in zip(asks, prices):
+        floor -= price * (places - stock.room_of(name))
+    return floor.as_integer_ratio()
+
+
 def plain_run(stock, places, asks, pick):
     """A book made by hand: pick tells what goes, from all asks, the present one's number and the shelf."""
     shelf = []
@@ -151,8 +200,8 @@ def lawful_books(stock, asks, places, lying=()):
                 yield [(name, there, list(gone))] + rest
 
 
-def cheapest_paid(stock, asks, places):
-    """What the cheapest lawful book pays, by all that may lie on the shelf behind each ask."""
+def ways_by_sets(stock, asks, places):
+    """Behind each ask all sets of things that may lie on the shelf, with the least that was paid for each."""
     ways = {frozenset(): 0}
     for name in asks:
         behind = {}
@@ -163,7 +212,15 @@ def cheapest_paid(stock, asks, places):
                 if sum(map(stock.room_of, now)) <= places:
                     behind[now] = min(paid, behind.get(now, paid))
         ways = behind
-    return min(ways.values())
+        yield ways
+
+
+def cheapest_paid(stock, asks, places):
+    """What the cheapest lawful book pays, by all that may lie on the shelf behind each ask."""
+    least = 0
+    for ways in ways_by_sets(stock, asks, places):
+        least = min(ways.values())
+    return least
 
 
 class Watch(Rule):
@@ -191,3 +248,110 @@ class Watch(Rule):
 
     def came(self, name):
         return self.hand_on("came", name)
+
+
+class RowTests:
+    """The rows over which the book of each rule is held, by each_book, against a second telling of the rule."""
+
+    def test_short_rows(self):
+        for stock, places, asks in short_cases():
+            self.each_book(stock, places, asks)
+
+    def test_long_rows(self):
+        for stock, places, asks in long_cases():
+            self.each_book(stock, places, asks)
+
+
+class RuleTests(RowTests):
+    """Tests that each rule of a test's kinds must pass; tell gives what a rule tells besides its choice."""
+
+    def test_one_place(self):
+        asks = "a a b a b b".split()
+        for kind in self.kinds:
+            self.assertEqual(book_of(kind(stock_of("a b"), 1), asks), book_from("a- a+ b-a a-b b-a b+"))
+
+    def test_a_million_places(self):
+        stock = wide_stock(60, lambda number: 1000)
+        asks = stock.names() + stock.names()[::-1]
+        for kind in self.kinds:
+            book = book_of(kind(stock, 10 ** 6), asks)
+            self.assertEqual([there for name, there, gone in book], [False] * 60 + [True] * 60)
+            self.assertEqual([gone for name, there, gone in book], [[]] * 120)
+
+    def test_no_asks(self):
+        for kind in self.kinds:
+            self.assertEqual(book_of(kind(stock_of("a"), 1), []), [])
+            self.assertEqual(book_of(kind(Stock([]), 10 ** 6), []), [])
+
+    def test_fields_and_nests(self):
+        stock = stock_of("a b")
+        for kind in self.kinds:
+            self.assertEqual(kind.__bases__, (Rule,))
+            for places in (1, 7, 10 ** 6):
+                rule = kind(stock, places)
+                self.assertIs(rule.stock, stock)
+                self.assertEqual(rule.places, places)
+                self.assertIs(rule.nests(), False)
+                book_of(rule, ["a", "b"])
+                self.assertIs(rule.nests(), False)
+
+    def test_no_places(self):
+        for kind in self.kinds:
+            for places in NO_PLACES:
+                assert_refused(self, "NoNumber", kind, stock_of("a"), places)
+
+    def test_refused_asks_are_no_run(self):
+        stock = stock_of("a b c d w5")
+        asks = "a b c a b d d a c b a".split()
+        for kind in self.kinds:
+            rule = kind(stock, 2)
+            new = self.tell(kind(stock, 2))
+            assert_refused(self, "TooMany", book_of, rule, ["a", "z"] * 101)
+            refusal = assert_refused(self, "Unknown", book_of, rule, ["a", "z", "w"])
+            self.assertEqual((refusal.name, refusal.place), ("z", 1))
+            refusal = assert_refused(self, "TooWide", book_of, rule, ["a", "b", "w", "z"])
+            self.assertEqual((refusal.name, refusal.place), ("w", 2))
+            self.assertEqual(self.tell(rule), new)
+            self.assertEqual(book_of(rule, asks), book_of(kind(stock, 2), asks))
+
+    def test_nothing_is_given_back(self):
+        for kind in self.kinds:
+            rule = kind(stock_of("a b"), 1)
+            self.assertIsNone(rule.asked("a"))
+            self.assertIsNone(rule.came("a"))
+            self.assertIsNone(rule.asked("a"))
+            self.assertIsNone(rule.asked("b"))
+            lying = ["a"]
+            self.assertEqual(rule.choice(lying), "a")
+            self.assertEqual(lying, ["a"])
+            self.assertIsNone(rule.gone("a"))
+            self.assertIsNone(rule.came("b"))
+            self.assertIsNone(rule.asked("a"))
+
+    def test_telling_changes_nothing(self):
+        stock = stock_of("a b2 c d3 e")
+        for kind in self.kinds:
+            for asks in long_rows(stock.names(), 9):
+                watched = Watch(kind(stock, 4), self.tell)
+                self.assertEqual(self.tell(watched.rule), self.tell(watched.rule))
+                self.assertEqual(book_of(watched, asks), book_of(kind(stock, 4), asks))
+
+    def test_the_same_again(self):
+        asks = "a b c a b d d a c b a".split()
+        for kind in self.kinds:
+            one, other = kind(stock_of("a b c d"), 2), kind(stock_of("a b c d"), 2)
+            self.assertEqual(book_of(one, asks), book_of(other, asks))
+            self.assertEqual(self.tell(one), self.tell(other))
+            self.assertEqual(self.tell(one), self.tell(one))
+
+    def test_the_lists_of_a_book_are_apart(self):
+        asks = "a a b c c a".split()
+        for kind in self.kinds:
+            rule = kind(stock_of("a b c"), 2)
+            book = book_of(rule, asks)
+            before = self.tell(rule)
+            again = book_of(kind(stock_of("a b c"), 2), asks)
+            for name, there, gone in book:
+                gone.append("z")
+            self.assertEqual(self.tell(rule), before)
+            self.assertEqual([(name, there, gone[:-1]) for name, there, gone in book], again)

@@ -6,41 +6,14 @@ from fractions import Fraction
 from castoff.books import lying_after, paid_by
 from castoff.flows import flow_of
 from castoff.papers import floor_of
-from castoff.rules import Farthest, First, Halving, Oldest, Ranked, Rule, book_of
+from castoff.rules import book_of
 from castoff.stock import Stock
-from castoff.turns import Hand, Rows
 from tests.helper import (
-    NO_PLACES, assert_refused, book_from, cheapest_paid, lawful_books, long_cases, short_rows, stock_of, wide_stock,
-    words,
+    NO_PLACES, assert_refused, book_from, cheapest_paid, drawn_case, gaps_between, lawful_books, long_cases,
+    plain_floor, ratios, rules_for, short_rows, stock_of, wide_stock, widest_of, words,
 )
 
 GREAT = 10 ** 30
-
-
-def ratios(text):
-    """Prices as 1/2 0 7 tell them."""
-    return [Fraction(word).as_integer_ratio() for word in text.split()]
-
-
-def gaps_between(asks):
-    """Each gap as its thing and the numbers of the asks strictly between."""
-    gaps = []
-    for start in range(len(asks)):
-        for end in range(start + 1, len(asks)):
-            if asks[start] == asks[end] and asks[start] not in asks[start + 1:end]:
-                gaps.append((asks[start], range(start + 1, end)))
-    return gaps
-
-
-def plain_floor(stock, asks, places, prices):
-    """The floor as the document words it, sum by sum."""
-    prices = [Fraction(*price) for price in prices]
-    floor = Fraction(sum(map(stock.cost_of, set(asks))))
-    for name, between in gaps_between(asks):
-        floor += min(stock.cost_of(name), stock.room_of(name) * sum(prices[number] for number in between))
-    for name, price in zip(asks, prices):
-        floor -= price * (places - stock.room_of(name))
-    return floor.as_integer_ratio()
 
 
 def drawn_prices(dice, many, most):
@@ -48,14 +21,6 @@ def drawn_prices(dice, many, most):
     bottoms = (1, 1, 2, 3, 12, 10 ** 9 + 7)
     return [Fraction(dice.choice((0, 1, dice.randint(0, most))), dice.choice(bottoms)).as_integer_ratio()
             for _ in range(many)]
-
-
-def rules_for(stock, places, asks):
-    return [
-        Rule(stock, places), Ranked(stock, places), Oldest(stock, places), First(stock, places),
-        Halving(stock, places), Halving(stock, places, 1), Farthest(stock, places, asks), Hand(stock, places),
-        Rows(stock, places),
-    ]
 
 
 class TestFloor(unittest.TestCase):
@@ -228,10 +193,8 @@ class TestNoBookPaysLess(unittest.TestCase):
     def test_the_cheapest_of_all_books(self):
         dice = random.Random(331)
         for _ in range(400):
-            names = "abcde"[:dice.randint(1, 5)]
-            stock = Stock([(name, dice.choice((0, 1, 7, dice.randint(0, 99))), dice.randint(1, 4)) for name in names])
-            asks = [dice.choice(names) for _ in range(dice.randint(1, 12))]
-            widest = max(map(stock.room_of, asks))
+            stock, asks = drawn_case(dice, 5, 12, 4)
+            widest = widest_of(stock, asks)
             places = dice.randint(widest, widest + 6)
             least = cheapest_paid(stock, asks, places)
             for most in (1, 3, 20, 99):
@@ -262,9 +225,7 @@ class TestNoBookPaysLess(unittest.TestCase):
         # Of room 1 there are always prices whose floor is just what the cheapest book pays.
         dice = random.Random(334)
         for _ in range(300):
-            names = "abcde"[:dice.randint(1, 5)]
-            stock = Stock([(name, dice.choice((0, 1, 7, dice.randint(0, 99))), 1) for name in names])
-            asks = [dice.choice(names) for _ in range(dice.randint(0, 14))]
+            stock, asks = drawn_case(dice, 5, 14)
             for places in (1, 2, 3, 4, 10 ** 6):
                 jumps = [(between.start, between.stop, stock.cost_of(name)) for name, between in gaps_between(asks)]
                 heights = flow_of(len(asks) + 1, jumps, places - 1)[1]

@@ -3,9 +3,7 @@ import unittest
 from castoff.books import lying_after
 from castoff.rules import Farthest, First, Halving, Oldest, Ranked, Rule, book_of
 from castoff.stock import Stock
-from tests.helper import (
-    NO_PLACES, Watch, assert_refused, book_from, long_cases, plain_run, short_cases, stock_of, wide_stock,
-)
+from tests.helper import NO_PLACES, RowTests, Watch, assert_refused, book_from, plain_run, stock_of, wide_stock
 
 PLAIN_MAKERS = {
     "Rule": lambda stock, places, asks: Rule(stock, places),
@@ -176,7 +174,7 @@ class TestRun(unittest.TestCase):
             self.assertEqual(asks, "a a b c c a".split())
 
 
-class TestEveryRule(unittest.TestCase):
+class TestEveryRule(RowTests, unittest.TestCase):
     def each_book(self, stock, places, asks):
         for name, make in PLAIN_MAKERS.items():
             given = list(asks)
@@ -184,14 +182,6 @@ class TestEveryRule(unittest.TestCase):
             self.assertEqual(given, asks)
             self.assertEqual(book, plain_run(stock, places, asks, PICKS[name]), (name, places, asks))
             self.assertEqual(len(lying_after(stock, asks, places, book)), len(asks))
-
-    def test_short_rows(self):
-        for stock, places, asks in short_cases():
-            self.each_book(stock, places, asks)
-
-    def test_long_rows(self):
-        for stock, places, asks in long_cases():
-            self.each_book(stock, places, asks)
 
     def test_one_place(self):
         for name, make in PLAIN_MAKERS.items():

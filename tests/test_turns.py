@@ -1,14 +1,9 @@
 import unittest
 
 from castoff.books import lying_after
-from castoff.rules import Rule, book_of
-from castoff.stock import Stock
+from castoff.rules import book_of
 from castoff.turns import Hand, Rows
-from tests.helper import (
-    NO_PLACES, Watch, assert_refused, book_from, long_cases, long_rows, plain_run, short_cases, stock_of, wide_stock,
-)
-
-KINDS = (Hand, Rows)
+from tests.helper import RuleTests, Watch, book_from, plain_run, stock_of, wide_stock
 
 
 def told_by(rule):
@@ -120,7 +115,10 @@ class RowsByHand:
         return (*[self.row(title) for title in ("once", "again", "past_once", "past_again")], self.bound)
 
 
-class TestBothRules(unittest.TestCase):
+class TestBothRules(RuleTests, unittest.TestCase):
+    kinds = (Hand, Rows)
+    tell = staticmethod(told_by)
+
     def each_book(self, stock, places, asks):
         for kind, plain in ((Hand, RingByHand), (Rows, RowsByHand)):
             given = list(asks)
@@ -131,105 +129,6 @@ class TestBothRules(unittest.TestCase):
             self.assertEqual(book, plain_run(stock, places, asks, model.pick), (kind, places, asks))
             self.assertEqual(told_by(rule), model.told(asks), (kind, places, asks))
             self.assertEqual(len(lying_after(stock, asks, places, book)), len(asks))
-
-    def test_short_rows(self):
-        for stock, places, asks in short_cases():
-            self.each_book(stock, places, asks)
-
-    def test_long_rows(self):
-        for stock, places, asks in long_cases():
-            self.each_book(stock, places, asks)
-
-    def test_one_place(self):
-        asks = "a a b a b b".split()
-        for kind in KINDS:
-            self.assertEqual(book_of(kind(stock_of("a b"), 1), asks), book_from("a- a+ b-a a-b b-a b+"))
-
-    def test_a_million_places(self):
-        stock = wide_stock(60, lambda number: 1000)
-        asks = stock.names() + stock.names()[::-1]
-        for kind in KINDS:
-            book = book_of(kind(stock, 10 ** 6), asks)
-            self.assertEqual([there for name, there, gone in book], [False] * 60 + [True] * 60)
-            self.assertEqual([gone for name, there, gone in book], [[]] * 120)
-
-    def test_no_asks(self):
-        for kind in KINDS:
-            self.assertEqual(book_of(kind(stock_of("a"), 1), []), [])
-            self.assertEqual(book_of(kind(Stock([]), 10 ** 6), []), [])
-
-    def test_fields_and_nests(self):
-        stock = stock_of("a b")
-        for kind in KINDS:
-            self.assertEqual(kind.__bases__, (Rule,))
-            for places in (1, 7, 10 ** 6):
-                rule = kind(stock, places)
-                self.assertIs(rule.stock, stock)
-                self.assertEqual(rule.places, places)
-                self.assertIs(rule.nests(), False)
-                book_of(rule, ["a", "b"])
-                self.assertIs(rule.nests(), False)
-
-    def test_no_places(self):
-        for kind in KINDS:
-            for places in NO_PLACES:
-                assert_refused(self, "NoNumber", kind, stock_of("a"), places)
-
-    def test_refused_asks_are_no_run(self):
-        stock = stock_of("a b c d w5")
-        asks = "a b c a b d d a c b a".split()
-        for kind in KINDS:
-            rule = kind(stock, 2)
-            new = told_by(kind(stock, 2))
-            assert_refused(self, "TooMany", book_of, rule, ["a", "z"] * 101)
-            refusal = assert_refused(self, "Unknown", book_of, rule, ["a", "z", "w"])
-            self.assertEqual((refusal.name, refusal.place), ("z", 1))
-            refusal = assert_refused(self, "TooWide", book_of, rule, ["a", "b", "w", "z"])
-            self.assertEqual((refusal.name, refusal.place), ("w", 2))
-            self.assertEqual(told_by(rule), new)
-            self.assertEqual(book_of(rule, asks), book_of(kind(stock, 2), asks))
-
-    def test_nothing_is_given_back(self):
-        for kind in KINDS:
-            rule = kind(stock_of("a b"), 1)
-            self.assertIsNone(rule.asked("a"))
-            self.assertIsNone(rule.came("a"))
-            self.assertIsNone(rule.asked("a"))
-            self.assertIsNone(rule.asked("b"))
-            lying = ["a"]
-            self.assertEqual(rule.choice(lying), "a")
-            self.assertEqual(lying, ["a"])
-            self.assertIsNone(rule.gone("a"))
-            self.assertIsNone(rule.came("b"))
-            self.assertIsNone(rule.asked("a"))
-
-    def test_telling_changes_nothing(self):
-        stock = stock_of("a b2 c d3 e")
-        for kind in KINDS:
-            for asks in long_rows(stock.names(), 9):
-                watched = Watch(kind(stock, 4), told_by)
-                self.assertEqual(told_by(watched.rule), told_by(watched.rule))
-                self.assertEqual(book_of(watched, asks), book_of(kind(stock, 4), asks))
-
-    def test_the_same_again(self):
-        asks = "a b c a b d d a c b a".split()
-        for kind in KINDS:
-            one, other = kind(stock_of("a b c d"), 2), kind(stock_of("a b c d"), 2)
-            self.assertEqual(book_of(one, asks), book_of(other, asks))
-            self.assertEqual(told_by(one), told_by(other))
-            self.assertEqual(told_by(one), told_by(one))
-
-    def test_the_lists_of_a_book_are_apart(self):
-        asks = "a a b c c a".split()
-        for kind in KINDS:
-            rule = kind(stock_of("a b c"), 2)
-            book = book_of(rule, asks)
-            before = told_by(rule)
-            again = book_of(kind(stock_of("a b c"), 2), asks)
-            for name, there, gone in book:
-                gone.append("z")
-            self.assertEqual(told_by(rule), before)
-            self.assertEqual([(name, there, gone[:-1]) for name, there, gone in book], again)
 
 
 class TestHand(unittest.TestCase):
