@@ -180,6 +180,28 @@ class TestLanguage(unittest.TestCase):
             names = bound_at_top(tree)
             self.assertEqual(len(names), len(set(names)), path.name)
 
+    def test_l15_what_a_top_holds_is_only_read(self):
+        kept = {
+            path: {row.targets[0].id for row in tree.body if isinstance(row, ast.Assign)
+                   and isinstance(row.value, (ast.List, ast.Dict))}
+            for path, tree in self.trees.items()
+        }
+        everywhere = set().union(*kept.values())
+        for place, node, parent in self.each_with_parent(ast.Name):
+            if node.id in everywhere and isinstance(node.ctx, ast.Load):
+                index = isinstance(parent, ast.Subscript) and parent.value is node and isinstance(parent.ctx, ast.Load)
+                asked = isinstance(parent, ast.Compare) and node in parent.comparators
+                self.assertTrue(index or asked, place)
+
+    def test_l3_tops_hold_functions_defined_above(self):
+        for path, tree in self.trees.items():
+            above = set()
+            for row in tree.body:
+                if isinstance(row, ast.FunctionDef):
+                    above.add(row.name)
+                elif isinstance(row, ast.Assign):
+                    self.assertLessEqual({node.id for node in walked(row.value, ast.Name)}, above, path.name)
+
     def test_l6_l7_nodes(self):
         for path, tree in self.trees.items():
             for node in ast.walk(tree):
@@ -234,6 +256,7 @@ class TestLanguage(unittest.TestCase):
             tops = set(bound_at_top(tree))
             local = {node.id for node in walked(tree, ast.Name) if isinstance(node.ctx, ast.Store)}
             local |= {node.arg for node in walked(tree, ast.arg)}
+            local |= {node.name for node in walked(tree, ast.ExceptHandler) if node.name}
             inner = {n.name for f in walked(tree, ast.FunctionDef) for n in walked(f, ast.FunctionDef) if n is not f}
             for node in walked(tree, ast.Name):
                 self.assertIn(node.id, OWN_NAMES | tops | local | inner, f"{path.name}:{node.lineno}")
